@@ -1,0 +1,1 @@
+"""Solvedplay: games of two solved whole."""

@@ -1,0 +1,25 @@
+"""What several files ask of the things that they are handed."""
+
+
+def tupled(thing):
+    """The same with tuples for lists, so that nothing told or kept is the asker's own list."""
+    if isinstance(thing, (list, tuple)):
+        return tuple([tupled(part) for part in thing])
+    return thing
+
+
+def is_number(thing):
+    # Python counts True and False among the whole numbers, the document doesn't.
+    return isinstance(thing, int) and not isinstance(thing, bool)
+
+
+def is_number_from(thing, least, most):
+    return is_number(thing) and least <= thing <= most
+
+
+def is_tuple_of(thing, many):
+    return isinstance(thing, tuple) and len(thing) == many
+
+
+def is_text_of(thing, signs, least, most):
+    return isinstance(thing, str) and least <= len(thing) <= most and all([sign in signs for sign in thing])

@@ -1,0 +1,161 @@
+"""What holds of all that is handed in and told: kinds, names, whose a list is."""
+
+import copy
+import unittest
+
+from solvedplay.errors import BadRow, NoMove
+from solvedplay.games import is_game, is_standing
+from solvedplay.gametext import game_in, game_text
+from solvedplay.moves import done, ended, moves, places_of
+from tests.oracle import game_of, listed
+
+GAME = game_of(".ab", 3, ((("a", "."), ("a", "b"), ("ab", "ba"), ("b", ".")), ((".", "a"), ("b.", ".b"))),
+               ((0, "...", 4), (1, "bbb", -3), (2, "aaa", 2)), (-1, 0), "ring")
+PLAIN = game_of(".ab", 3, ((), ()), (), (5, -5))
+
+# Each with its arguments by their names, in their places.
+CALLS = [
+    (game_text, {"game": GAME}),
+    (game_text, {"game": PLAIN}),
+    (game_in, {"text": "game toy ring .ab 3\nrule 0 a b\nend 2 aaa 2\nstuck 0 0"}),
+    (game_in, {"text": "game toy ring .ab 3\nrule 0 a a\nend 2 aaa 2\nstuck 0 0"}),
+    (places_of, {"game": GAME, "row": "abb", "text": "ba"}),
+    (places_of, {"game": PLAIN, "row": "bbb", "text": "b"}),
+    (ended, {"game": GAME, "standing": (0, "...")}),
+    (ended, {"game": GAME, "standing": (1, "bab")}),
+    (ended, {"game": PLAIN, "standing": (1, "bab")}),
+    (moves, {"game": GAME, "standing": (0, "bab")}),
+    (moves, {"game": GAME, "standing": (0, "...")}),
+    (done, {"game": GAME, "standing": (0, "bab"), "move": (1, "ab", "ba")}),
+    (done, {"game": GAME, "standing": (0, "bab"), "move": (0, "ab", "ba")}),
+    (done, {"game": GAME, "standing": (0, "bab"), "move": (True, "ab", "ba")}),
+    (done, {"game": PLAIN, "standing": (0, "bab"), "move": ()}),
+]
+
+REFUSALS = (BadRow, NoMove)
+
+
+def outcome(function, *places, **names):
+    """What is told, or which refusal with what, shown so that kinds count."""
+    try:
+        return repr(function(*places, **names))
+    except REFUSALS as refusal:
+        return (type(refusal), repr(refusal.what))
+
+
+def tupled(thing):
+    return tuple(tupled(part) for part in thing) if isinstance(thing, (list, tuple)) else thing
+
+
+def lists_in(thing):
+    """All lists in what is told, itself counted."""
+    if not isinstance(thing, (list, tuple)):
+        return []
+    return ([thing] if isinstance(thing, list) else []) + [one for part in thing for one in lists_in(part)]
+
+
+class HandedIn(unittest.TestCase):
+    def test_by_place_and_by_name(self):
+        for function, names in CALLS:
+            plain = {name: names[name] for name in names if name != "most"}
+            most = {name: names[name] for name in names if name == "most"}
+            want = outcome(function, *plain.values(), **most)
+            self.assertEqual(outcome(function, **names), want, function)
+            for many in range(len(plain)):
+                first = list(plain.values())[:many]
+                rest = {name: plain[name] for name in list(plain)[many:]}
+                self.assertEqual(outcome(function, *first, **rest, **most), want, function)
+
+    def test_lists_for_tuples_and_tuples_for_lists(self):
+        for function, names in CALLS:
+            want = outcome(function, **names)
+            for turned in (listed, tupled):
+                self.assertEqual(outcome(function, **{name: turned(names[name]) for name in names}), want, function)
+                for name in names:
+                    self.assertEqual(outcome(function, **{**names, name: turned(names[name])}), want, (function, name))
+
+    def test_one_list_in_a_tuple(self):
+        # Not all the way down: the outer one, or the inner ones alone.
+        outer = list(GAME)
+        inner = tuple(list(part) if isinstance(part, tuple) else part for part in GAME)
+        rules = GAME[:4] + (tuple(tuple(list(rule) for rule in side) for side in GAME[4]),) + GAME[5:]
+        for function, names in CALLS:
+            if names.get("game") == GAME:
+                for game in (outer, inner, rules):
+                    self.assertEqual(outcome(function, **{**names, "game": game}), outcome(function, **names), function)
+
+    def test_nothing_handed_in_is_changed(self):
+        for function, names in CALLS:
+            for turned in (listed, tupled):
+                handed = {name: turned(names[name]) for name in names}
+                ahead = copy.deepcopy(handed)
+                outcome(function, **handed)
+                self.assertEqual(repr(handed), repr(ahead), function)
+
+    def test_told_the_same_again(self):
+        for function, names in CALLS:
+            self.assertEqual(outcome(function, **names), outcome(function, **names), function)
+
+    def test_told_lists_are_the_askers_own(self):
+        for function, names in CALLS:
+            want = outcome(function, **names)
+            if not isinstance(want, str):
+                continue
+            handed = {name: listed(names[name]) for name in names}
+            ahead = repr(handed)
+            told, other = function(**handed), function(**handed)
+            self.assertEqual(len({id(one) for one in lists_in([told, other])}), len(lists_in([told, other])), function)
+            for one in lists_in(told):
+                one.append("changed")
+                one.reverse()
+            self.assertEqual((repr(handed), repr(other)), (ahead, want), function)
+            self.assertEqual(outcome(function, **handed), want, function)
+
+    def test_handed_in_is_not_kept(self):
+        for function, names in CALLS:
+            want = outcome(function, **names)
+            handed = {name: listed(names[name]) for name in names}
+            try:
+                told = function(**handed)
+            except REFUSALS as refusal:
+                told = refusal
+            for one in lists_in(list(handed.values())):
+                one.clear()
+            shown = (type(told), repr(told.what)) if isinstance(told, REFUSALS) else repr(told)
+            self.assertEqual(shown, want, function)
+
+
+class AskedOf(unittest.TestCase):
+    """In what is_.. is asked of, no list stands for a tuple."""
+
+    def test_lists_count_there(self):
+        self.assertIs(is_game(GAME), True)
+        self.assertIs(is_game(listed(GAME)), False)
+        self.assertIs(is_standing(listed(GAME), (0, "bab")), True)
+        self.assertIs(is_standing(listed(GAME), [0, "bab"]), False)
+
+    def test_things_asked_of_stay(self):
+        for thing in (listed(GAME), list(GAME), [0, "bab"], [[[]], (None, [True])]):
+            ahead = copy.deepcopy(thing)
+            game = listed(GAME)
+            is_game(thing)
+            is_standing(game, thing)
+            self.assertEqual((repr(thing), game), (repr(ahead), listed(GAME)))
+
+    def test_by_names(self):
+        self.assertIs(is_game(thing=GAME), True)
+        self.assertIs(is_standing(game=GAME, thing=(1, "..a")), True)
+        self.assertIs(is_standing(GAME, thing=(1, "..c")), False)
+
+
+class Refusals(unittest.TestCase):
+    def test_a_refusal_changes_nothing(self):
+        for move in ((9, "a", "b"), [9, "a", "b"], (True, "ab", "ba")):
+            with self.assertRaises(NoMove):
+                done(GAME, (0, "bab"), move)
+            self.assertEqual(moves(GAME, (0, "bab")), [(0, "b", "."), (1, "a", "."), (1, "a", "b"), (1, "ab", "ba"),
+                                                       (2, "b", ".")])
+
+
+if __name__ == "__main__":
+    unittest.main()
