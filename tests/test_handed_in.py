@@ -3,15 +3,20 @@
 import copy
 import unittest
 
-from solvedplay.errors import BadRow, NoMove
+from solvedplay.ahead import known_by, within
+from solvedplay.errors import BadRow, NoMove, TooMany
 from solvedplay.games import is_game, is_standing
 from solvedplay.gametext import game_in, game_text
 from solvedplay.moves import done, ended, moves, places_of
+from solvedplay.reach import reached, unused, ways_back
+from solvedplay.rounds import back_in, round_word
+from solvedplay.solving import solved, worth_of
 from tests.oracle import game_of, listed
 
 GAME = game_of(".ab", 3, ((("a", "."), ("a", "b"), ("ab", "ba"), ("b", ".")), ((".", "a"), ("b.", ".b"))),
                ((0, "...", 4), (1, "bbb", -3), (2, "aaa", 2)), (-1, 0), "ring")
 PLAIN = game_of(".ab", 3, ((), ()), (), (5, -5))
+ROUND = game_of("ab", 2, ((("a", "b"), ("b", "a")), (("a", "b"), ("b", "a"))))
 
 # Each with its arguments by their names, in their places.
 CALLS = [
@@ -30,9 +35,36 @@ CALLS = [
     (done, {"game": GAME, "standing": (0, "bab"), "move": (0, "ab", "ba")}),
     (done, {"game": GAME, "standing": (0, "bab"), "move": (True, "ab", "ba")}),
     (done, {"game": PLAIN, "standing": (0, "bab"), "move": ()}),
+    (reached, {"game": GAME, "standings": [(0, "bab"), (0, "..a"), (0, "bab")]}),
+    (reached, {"game": GAME, "standings": [(0, "bab")], "most": 54}),
+    (reached, {"game": GAME, "standings": [(0, "bab")], "most": 3}),
+    (reached, {"game": PLAIN, "standings": [(0, "bab"), (0, "..a"), (0, "bab")], "most": 2}),
+    (reached, {"game": PLAIN, "standings": []}),
+    (unused, {"game": GAME, "standings": [(0, "..."), (0, "aab")]}),
+    (unused, {"game": GAME, "standings": [(0, "...")], "most": 1}),
+    (unused, {"game": GAME, "standings": [(0, "aab")], "most": 2}),
+    (ways_back, {"game": GAME, "standings": [(0, "bab")], "goal": (1, ".ab")}),
+    (ways_back, {"game": GAME, "standings": [(0, "bab"), (0, "..b")], "goal": (1, "..."), "most": 54}),
+    (ways_back, {"game": GAME, "standings": [(0, "bab")], "goal": (1, ".ab"), "most": 1}),
+    (solved, {"game": GAME, "standings": [(0, "bab"), (0, "..a"), (0, "bab")]}),
+    (solved, {"game": PLAIN, "standings": [(0, "bab"), (0, "..a"), (0, "bab")], "most": 2}),
+    (solved, {"game": GAME, "standings": [(0, "bab")], "most": 5}),
+    (worth_of, {"game": GAME, "standing": (0, "bab")}),
+    (worth_of, {"game": GAME, "standing": (0, "bab"), "most": 54}),
+    (worth_of, {"game": GAME, "standing": (0, "bab"), "most": 5}),
+    (round_word, {"game": GAME, "standing": (0, "bab")}),
+    (round_word, {"game": ROUND, "standing": (1, "ab"), "most": 54}),
+    (round_word, {"game": GAME, "standing": (0, "bab"), "most": 5}),
+    (back_in, {"game": GAME, "standing": (0, "bab")}),
+    (back_in, {"game": ROUND, "standing": (1, "ab"), "most": 54}),
+    (back_in, {"game": GAME, "standing": (0, "bab"), "most": 5}),
+    (within, {"game": GAME, "standing": (0, "bab"), "deep": 4}),
+    (within, {"game": GAME, "standing": (1, "aaa"), "deep": 0}),
+    (known_by, {"game": GAME, "standing": (0, "bab"), "deep": 4}),
+    (known_by, {"game": PLAIN, "standing": (0, "bab"), "deep": 4}),
 ]
 
-REFUSALS = (BadRow, NoMove)
+REFUSALS = (BadRow, NoMove, TooMany)
 
 
 def outcome(function, *places, **names):
@@ -146,6 +178,17 @@ class AskedOf(unittest.TestCase):
         self.assertIs(is_game(thing=GAME), True)
         self.assertIs(is_standing(game=GAME, thing=(1, "..a")), True)
         self.assertIs(is_standing(GAME, thing=(1, "..c")), False)
+
+
+class Asking(unittest.TestCase):
+    def test_the_order_in_which_it_is_asked_is_no_matter(self):
+        wants = [outcome(function, **names) for function, names in CALLS]
+        others = [outcome(function, **names) for function, names in CALLS[::-1]]
+        self.assertEqual(wants, others[::-1])
+
+    def test_some_are_told_and_some_refused(self):
+        kinds = {type(outcome(function, **names)) for function, names in CALLS if function in (reached, solved, done)}
+        self.assertEqual(kinds, {str, tuple})
 
 
 class Refusals(unittest.TestCase):
