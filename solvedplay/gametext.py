@@ -1,7 +1,8 @@
 """Games as texts, and back."""
 
 from solvedplay.errors import BadRow
-from solvedplay.games import GREATEST, MOST_ENDS, MOST_RULES, is_end, is_head, is_rule
+from solvedplay.games import MOST_ENDS, MOST_RULES, is_end, is_head, is_rule
+from solvedplay.words import number_in, worth_in
 
 
 def game_text(game):
@@ -42,7 +43,7 @@ def head_in(row):
     if len(words) != 5 or words[0] != "game":
         return None
     name, shape, beads = words[1:4]
-    long = number_in(words[4])
+    long = number_in(words[4], 2, 7)
     return (name, shape, beads, long) if is_head(name, shape, beads, long) else None
 
 
@@ -80,7 +81,7 @@ def end_in(head, row):
     words = row.split(" ")
     if len(words) != 4 or words[0] != "end":
         return None
-    end = (number_in(words[1]), words[2], number_in(words[3]))
+    end = (number_in(words[1], 0, 2), words[2], worth_in(words[3]))
     return end if is_end(head[2], head[3], end) else None
 
 
@@ -88,13 +89,5 @@ def stuck_in(row):
     words = row.split(" ")
     if len(words) != 3 or words[0] != "stuck":
         return None
-    stuck = (number_in(words[1]), number_in(words[2]))
+    stuck = (worth_in(words[1]), worth_in(words[2]))
     return None if None in stuck else stuck
-
-
-def number_in(word):
-    """The number that is written just so, of those that a game may have; else None."""
-    for number in range(-GREATEST, GREATEST + 1):
-        if word == str(number):
-            return number
-    return None

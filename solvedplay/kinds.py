@@ -17,9 +17,18 @@ def is_number_from(thing, least, most):
     return is_number(thing) and least <= thing <= most
 
 
+def is_count(thing):
+    return is_number(thing) and thing >= 0
+
+
 def is_tuple_of(thing, many):
     return isinstance(thing, tuple) and len(thing) == many
 
 
 def is_text_of(thing, signs, least, most):
     return isinstance(thing, str) and least <= len(thing) <= most and all([sign in signs for sign in thing])
+
+
+def is_list_of(thing, is_one):
+    """Whether thing is a list of what is_one tells True of."""
+    return isinstance(thing, list) and all([is_one(one) for one in thing])

@@ -39,10 +39,15 @@ def moves(game, standing):
 def done(game, standing, move):
     """The standing behind a move; NoMove of what is none of the moves."""
     made = tupled(move)
-    # A truth equals a number, but is no place.
-    if made not in moves(game, standing) or not is_number(made[0]):
+    if not is_move(game, standing, made):
         raise NoMove(made)
     return behind_move(standing, made)
+
+
+def is_move(game, standing, thing):
+    """Whether thing is one of the moves, kind by kind."""
+    # A truth equals a number, but is no place.
+    return thing in moves(game, standing) and is_number(thing[0])
 
 
 def behind_move(standing, move):

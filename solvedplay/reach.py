@@ -30,12 +30,21 @@ def ways_back(game, standings, goal, *, most=MOST):
 
 def ways_from(game, standings, most):
     """A dict of all standings reached, in order: of each its pairs of a move and the standing behind it."""
-    met = {standing: True for standing in tupled(standings)}
+    def ways_at(standing):
+        return ways_on(game, standing)
+    return walked(tupled(standings), most, ways_at)
+
+
+def walked(begins, most, ways_at):
+    """A dict of all to which ways lead from the begins, in order: of each what ways_at tells, pairs of a move and
+    what is behind it; TooMany where there are more than most."""
+    met = {begin: True for begin in begins}
     order = list(met)
     ways = {}
     at = 0
-    while at < len(order) and len(order) <= most:
-        pairs = ways_on(game, order[at])
+    # Each of the first most is asked of, for ways_at may refuse it, and that goes ahead of TooMany.
+    while at < len(order) and at < most:
+        pairs = ways_at(order[at])
         ways[order[at]] = pairs
         for move, behind in pairs:
             if behind not in met:

@@ -18,20 +18,34 @@ def worth_of(game, standing, *, most=MOST):
     return worths_on(game, ways_from(game, [start], most))[start]
 
 
+def gain_of(side, worth):
+    """What a worth is to a side: above 0 where it gains."""
+    return worth if side == 0 else -worth
+
+
 def worths_on(game, ways):
     """A dict of the pairs (worth, far) of all standings of ways, as ways_from tells them."""
     ends = {standing: ended(game, standing) for standing in ways}
-    behinds = {standing: [behind for move, behind in ways[standing]] for standing in ways}
     told = {standing: (0, None if ends[standing] is None else 0) for standing in ways}
     # Rising, so that what is told last is the greatest gain of either side.
-    for worth in range(1, GREATEST + 1):
-        gains = [standing for standing in ends if ends[standing] is not None and ends[standing] >= worth]
-        losses = [standing for standing in ends if ends[standing] is not None and ends[standing] <= -worth]
-        for standing, far in brought(behinds, gains, 0).items():
-            told[standing] = (worth, far)
-        for standing, far in brought(behinds, losses, 1).items():
-            told[standing] = (-worth, far)
+    for size in range(1, GREATEST + 1):
+        for side, worth in ((0, size), (1, -size)):
+            for standing, far in nearness(ends, ways, side, worth).items():
+                told[standing] = (worth, far)
     return told
+
+
+def nearness(ends, ways, side, worth):
+    """A dict of the standings of ways from which that side can bring play to an end of that worth, or a better
+    one for it, each with the least number of moves within which it can; ends are what ended tells of each."""
+    goals = [standing for standing in ways if is_end_for(ends[standing], side, worth)]
+    behinds = {standing: [behind for move, behind in ways[standing]] for standing in ways}
+    return brought(behinds, goals, side)
+
+
+def is_end_for(end, side, worth):
+    """Whether what ended tells is that worth, or a better one for the side."""
+    return end is not None and gain_of(side, end) >= gain_of(side, worth)
 
 
 def brought(behinds, goals, side):

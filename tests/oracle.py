@@ -80,16 +80,19 @@ def reach_of(game, standings):
     return told
 
 
-def forced(game, standings, side, worth):
+def graph_of(game, standings):
+    """The dicts of what end_of tells, and of the standings behind; the standings are all that are reached."""
+    return {one: end_of(game, one) for one in standings}, {one: behind(game, one) for one in standings}
+
+
+def forced(ends, behinds, side, worth):
     """Of each number of moves, from 0, the set of standings from which the side can bring play to an end of that
-    worth, or better for it, within so many, until the set stays. The standings are all that are reached."""
-    ends = {standing: end_of(game, standing) for standing in standings}
-    behinds = {standing: behind(game, standing) for standing in standings}
+    worth, or better for it, within so many, until the set stays."""
     good = {one for one in ends if ends[one] is not None and (ends[one] >= worth if side == 0 else ends[one] <= worth)}
     sets = [good]
     while True:
         more = set(good)
-        for one in standings:
+        for one in ends:
             if ends[one] is None:
                 hits = [other in sets[-1] for other in behinds[one]]
                 if any(hits) if one[0] == side else all(hits):
@@ -100,9 +103,11 @@ def forced(game, standings, side, worth):
 
 
 def all_forced(game, standings):
-    told = {(0, worth): forced(game, standings, 0, worth) for worth in range(-9, 10)}
-    told.update({(1, worth): forced(game, standings, 1, worth) for worth in range(-9, 10)})
-    return told
+    return forced_on(*graph_of(game, standings))
+
+
+def forced_on(ends, behinds):
+    return {(side, worth): forced(ends, behinds, side, worth) for side in (0, 1) for worth in range(-9, 10)}
 
 
 def far_in(sets, standing):
@@ -114,13 +119,16 @@ def far_in(sets, standing):
 
 def solve(game, standings):
     """A dict of (worth, far) of all that are reached from the standings."""
-    found = reach_of(game, standings)
-    sets = all_forced(game, found)
+    return solve_on(*graph_of(game, reach_of(game, standings)))
+
+
+def solve_on(ends, behinds):
+    sets = forced_on(ends, behinds)
     told = {}
-    for standing in found:
+    for standing in ends:
         told[standing] = (0, None)
-        if end_of(game, standing) is not None:
-            told[standing] = (end_of(game, standing), 0)
+        if ends[standing] is not None:
+            told[standing] = (ends[standing], 0)
             continue
         for side, worths in ((0, range(9, 0, -1)), (1, range(-9, 0))):
             fars = [(worth, far_in(sets[(side, worth)], standing)) for worth in worths]

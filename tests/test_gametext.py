@@ -5,6 +5,7 @@ from solvedplay.errors import BadRow
 from solvedplay.games import is_game
 from solvedplay.gametext import game_in, game_text
 from tests.oracle import game_of, listed, random_games
+from tests.spoiling import spoilt
 
 GAME = ("hop", "ring", ".ab", 5, ((("a.", ".a"), ("b", "a")), (("..a", "a.."),)),
         ((0, "aa", 3), (1, "b", -9), (2, "ab", 9)), (0, -9))
@@ -250,26 +251,7 @@ class Spoilt(unittest.TestCase):
         return None
 
     def spoilt(self, dice, text):
-        rows = text.split("\n")
-        one, other = dice.randrange(len(rows)), dice.randrange(len(rows))
-        way = dice.randrange(6)
-        if way == 0:
-            rows[one], rows[other] = rows[other], rows[one]
-        elif way == 1:
-            rows.insert(other, rows[one])
-        elif way == 2:
-            del rows[one]
-        elif way == 3:
-            at = dice.randrange(len(rows[one]) + 1)
-            rows[one] = rows[one][:at] + dice.choice(" 0129-.abxz\n") + rows[one][at:]
-        elif way == 4:
-            at = dice.randrange(len(rows[one]) + 1)
-            rows[one] = rows[one][:at] + rows[one][at + 1:]
-        else:
-            words = rows[one].split(" ")
-            words[dice.randrange(len(words))] = dice.choice(["0", "1", "2", "3", "-1", "ab", "a", ".", "", "-0", "07"])
-            rows[one] = " ".join(words)
-        return "\n".join(rows)
+        return spoilt(dice, text, " 0129-.abxz\n", ["0", "1", "2", "3", "-1", "ab", "a", ".", "", "-0", "07"])
 
     def test_spoilt(self):
         dice = random.Random(7)

@@ -5,12 +5,17 @@ import unittest
 
 from solvedplay.ahead import known_by, within
 from solvedplay.errors import BadRow, NoMove, TooMany
+from solvedplay.farpapers import far_paper, shows_far
 from solvedplay.games import is_game, is_standing
 from solvedplay.gametext import game_in, game_text
 from solvedplay.moves import done, ended, moves, places_of
+from solvedplay.papers import paper, shows_rows, shows_worth
+from solvedplay.papertext import paper_in, paper_text
 from solvedplay.reach import reached, unused, ways_back
 from solvedplay.rounds import back_in, round_word
 from solvedplay.solving import solved, worth_of
+from solvedplay.tablepapers import shows_solved
+from solvedplay.tabletext import table_in, table_text
 from tests.oracle import game_of, listed
 
 GAME = game_of(".ab", 3, ((("a", "."), ("a", "b"), ("ab", "ba"), ("b", ".")), ((".", "a"), ("b.", ".b"))),
@@ -62,6 +67,24 @@ CALLS = [
     (within, {"game": GAME, "standing": (1, "aaa"), "deep": 0}),
     (known_by, {"game": GAME, "standing": (0, "bab"), "deep": 4}),
     (known_by, {"game": PLAIN, "standing": (0, "bab"), "deep": 4}),
+    (paper, {"game": GAME, "standing": (0, "bab")}),
+    (paper, {"game": PLAIN, "standing": (0, "bab"), "most": 1}),
+    (paper, {"game": ROUND, "standing": (1, "ab"), "most": 8}),
+    (paper, {"game": ROUND, "standing": (1, "ab"), "most": 3}),
+    (far_paper, {"game": GAME, "standing": (1, "..a")}),
+    (far_paper, {"game": GAME, "standing": (1, "bb."), "most": 54}),
+    (far_paper, {"game": PLAIN, "standing": (0, "bab"), "most": 1}),
+    (far_paper, {"game": ROUND, "standing": (1, "ab"), "most": 3}),
+    (table_text, {"rows": [((0, "bab"), 0, None), ((1, "..."), -4, 12)]}),
+    (table_text, {"rows": []}),
+    (table_in, {"game": GAME, "text": "0 bab 0 -\n1 ... -4 12"}),
+    (table_in, {"game": GAME, "text": "-"}),
+    (table_in, {"game": GAME, "text": "0 bab 0 -\n1 ... -4 -"}),
+    (paper_text, {"thing": (3, [((0, "bab"), (1, "a", "b"), 2)], [((0, "bab"), None, None)])}),
+    (paper_text, {"thing": (0, [], [])}),
+    (paper_in, {"game": GAME, "text": "paper 3\nleast 0 bab 1:a>b 2\nmost 0 bab - -"}),
+    (paper_in, {"game": GAME, "text": "paper 3"}),
+    (paper_in, {"game": GAME, "text": "paper 3\nleast 0 bab 1:a>bb 2"}),
 ]
 
 REFUSALS = (BadRow, NoMove, TooMany)
@@ -173,6 +196,21 @@ class AskedOf(unittest.TestCase):
             is_game(thing)
             is_standing(game, thing)
             self.assertEqual((repr(thing), game), (repr(ahead), listed(GAME)))
+
+    def test_lists_count_in_papers(self):
+        """What is told stands, with lists for the game and the standing, too, but not with lists for its tuples."""
+        for standing in ((0, "bab"), (1, "..a"), (1, "bb."), (0, "...")):
+            told = [(shows_worth, (standing,), paper(GAME, standing)),
+                    (shows_rows, (0, worth_of(GAME, standing)[0]), paper(GAME, standing)[1]),
+                    (shows_solved, ([standing],), solved(GAME, [standing]))]
+            if far_paper(GAME, standing) is not None:
+                told.append((shows_far, (standing,), far_paper(GAME, standing)))
+            for function, besides, thing in told:
+                self.assertIs(function(GAME, *besides, thing), True, function)
+                self.assertIs(function(listed(GAME), *listed(besides), thing), True, function)
+                self.assertIs(function(GAME, *tupled(besides), thing), True, function)
+                self.assertIs(function(GAME, *besides, listed(thing)), False, function)
+                self.assertIs(function(GAME, *besides, tupled(thing)), False, function)
 
     def test_by_names(self):
         self.assertIs(is_game(thing=GAME), True)

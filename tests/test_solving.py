@@ -2,17 +2,9 @@ import unittest
 
 from solvedplay.errors import TooMany
 from solvedplay.solving import solved, worth_of
+from tests.asking import TOGGLES, turned_round, walk
 from tests.oracle import all_standings, game_of, listed, random_games, reach_of, solve, some_standings
 from tests.samples import FOUR_HUNDRED, ONE_MORE
-
-TOGGLES = (("a", "b"), ("b", "a"))
-
-
-def turned_round(game):
-    """The same for the other side: rules, whos, stuck exchanged, worths the other way."""
-    name, shape, beads, long, rules, ends, stuck = game
-    ends = tuple(sorted((who if who == 2 else 1 - who, pattern, -worth) for who, pattern, worth in ends))
-    return (name, shape, beads, long, rules[::-1], ends, (-stuck[1], -stuck[0]))
 
 
 class Worths(unittest.TestCase):
@@ -27,11 +19,6 @@ class Worths(unittest.TestCase):
             self.assertIs(type(told), tuple)
             self.assertIs(type(told[0]), int)
 
-    # Side 0 moves x to the right, side 1 can only turn the first bead over.
-    def walk(self, ends, more=()):
-        rules = tuple(sorted((("x.", ".x"),) + more))
-        return game_of(".xab", 4, (rules, TOGGLES), ends)
-
     def test_ended_ones(self):
         game = game_of(".x", 3, ((("x", "."),), (("x", "."),)), ((0, "xx", 5), (0, "xxx", -5), (2, ".xx", -9)), (-2, 3))
         self.check(game, (0, "xx."), (5, 0))
@@ -43,17 +30,17 @@ class Worths(unittest.TestCase):
         self.check(game_of(".x", 3), (0, "xxx"), (0, 0))
 
     def test_by_ends(self):
-        game = self.walk(((2, "..x", 5),))
+        game = walk(((2, "..x", 5),))
         self.check(game, (0, "ax.."), (5, 3))
         self.check(game, (1, "bx.."), (5, 4))
         self.check(game, (0, "a.x."), (5, 1))
         self.check(game, (1, "a.x."), (5, 2))
         self.check(game, (1, "a..x"), (5, 0))
-        self.check(self.walk(((0, "..x", 5),)), (0, "ax.."), (5, 4))
-        self.check(self.walk(((1, "..x", 5),)), (0, "ax.."), (5, 3))
+        self.check(walk(((0, "..x", 5),)), (0, "ax.."), (5, 4))
+        self.check(walk(((1, "..x", 5),)), (0, "ax.."), (5, 3))
 
     def test_a_loss_by_ends(self):
-        game = self.walk(((2, "..x", -5),))
+        game = walk(((2, "..x", -5),))
         self.check(game, (0, "ax.."), (-5, 3))
         self.check(game, (1, "bx.."), (-5, 4))
 
@@ -86,17 +73,17 @@ class Worths(unittest.TestCase):
         self.check(forced, (1, "ab"), (-7, 2))
 
     def test_a_lesser_gain_nearer(self):
-        game = self.walk(((2, "...", 2), (2, "..x", 5)), (("x.", ".."),))
+        game = walk(((2, "...", 2), (2, "..x", 5)), (("x.", ".."),))
         self.check(game, (0, "ax.."), (5, 3))
         self.check(game, (1, "ax.."), (5, 4))
-        game = self.walk(((2, "...", 5), (2, "..x", 2)), (("x.", ".."),))
+        game = walk(((2, "...", 5), (2, "..x", 2)), (("x.", ".."),))
         self.check(game, (0, "ax.."), (5, 1))
-        game = self.walk(((2, "...", 5), (2, "..x", 5)), (("x.", ".."),))
+        game = walk(((2, "...", 5), (2, "..x", 5)), (("x.", ".."),))
         self.check(game, (0, "ax.."), (5, 1))
 
     def test_the_other_side_may_choose_a_worse_end_to_be_later(self):
         # Side 0 can end at -1 at once, or walk on to -3: for -1 or less side 1 needs the longer way.
-        game = self.walk(((2, "...", -1), (2, "..x", -3)), (("x.", ".."),))
+        game = walk(((2, "...", -1), (2, "..x", -3)), (("x.", ".."),))
         self.check(game, (0, "a.x."), (-1, 1))
         self.check(game, (0, "ax.."), (-1, 3))
 
