@@ -84,7 +84,8 @@ def rows_from(ways, start, side, lefts):
         return pairs[:1] if standing[0] == side else pairs
 
     chosen = walked([start], len(lefts), ways_at)
-    return [(standing, choice_of(chosen[standing], standing[0] == side), lefts[standing]) for standing in sorted(chosen)]
+    return [(standing, choice_of(chosen[standing], standing[0] == side), lefts[standing])
+            for standing in sorted(chosen)]
 
 
 def choice_of(pairs, is_its_turn):

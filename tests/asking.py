@@ -1,6 +1,6 @@
 """What tests of several files ask: games with much in them, things of all kinds, and refusals."""
 
-from tests.oracle import all_standings, game_of, random_games
+from tests.oracle import after, all_standings, game_of, moves_of, random_games
 
 TOGGLES = (("a", "b"), ("b", "a"))
 
@@ -23,7 +23,11 @@ def walk(ends, more=(), stuck=(0, 0)):
 
 # A gain of side 0 three moves away, from (0, "ax.."), by (0, "b.x.") and (1, "b..x").
 WALK = walk(((2, "..x", 5),))
-# There is a lesser gain within one move, too.
+START = (0, "ax..")
+STEP = (1, "x.", ".x")
+WALKED = (START, [STEP, (0, "a", "b"), (2, "x.", ".x")])
+# There is a lesser gain within one move, too, by STOP.
+STOP = (1, "x.", "..")
 FORKED = walk(((2, "...", 2), (2, "..x", 5)), (("x.", ".."),))
 # Side 0 turns over, or ends at a loss; side 1 can only turn over.
 ROUND = game_of("abc", 2, ((("a", "b"), ("aa", "cc"), ("b", "a"), ("bb", "cc")), TOGGLES), ((2, "cc", -7),))
@@ -31,6 +35,9 @@ ROUND = game_of("abc", 2, ((("a", "b"), ("aa", "cc"), ("b", "a"), ("bb", "cc")),
 TAKING = game_of(".x", 4, ((("x", "."),), (("x", "."),)), (), (-3, 4))
 # An x that goes round on a ring, whatever they do.
 RINGED = game_of(".x", 3, ((("x.", ".x"),), (("x.", ".x"),)), shape="ring")
+# Records of forty moves, and of one more.
+LONG = ((0, "x.."), [(number % 3, "x.", ".x") for number in range(40)])
+LONGER = ((0, "x.."), [(number % 3, "x.", ".x") for number in range(41)])
 # All is over at once, at 0.
 STUCK = game_of(".x", 2)
 
@@ -44,6 +51,16 @@ def asked_games(seed, many, longest=3):
 def small_games(seed, many):
     """Those that have few standings."""
     return [game for game in asked_games(seed, many) if len(all_standings(game)) < 100]
+
+
+def random_record(dice, game, most):
+    """A record of play from any standing, to an end or so many moves."""
+    here = dice.choice(all_standings(game))
+    record = (here, [])
+    while moves_of(game, here) and len(record[1]) < most:
+        record[1].append(dice.choice(moves_of(game, here)))
+        here = after(game, here, record[1][-1])
+    return record
 
 
 # Things of all other kinds.

@@ -247,3 +247,76 @@ def random_games(seed, many, longest=4, most_beads=3):
 
 def some_standings(seed, game, many):
     return random.Random(seed).sample(all_standings(game), many)
+
+
+def ways_of(game, standings):
+    """A dict of the pairs of a move and what is behind it, of each of these."""
+    return {one: [(move, after(game, one, move)) for move in moves_of(game, one)] for one in standings}
+
+
+def judged_by(ways, told, standing):
+    """What judged must tell, clause by clause, by the ways that there are and their worths."""
+    side = standing[0]
+    worth, far = told[standing]
+    rows = []
+    for move, other in ways[standing]:
+        now, left = told[other]
+        if now != worth:
+            word = "mistake"
+        elif worth == 0:
+            word = "best"
+        elif worth > 0 and side == 0 or worth < 0 and side == 1:
+            word = "best" if left == far - 1 else "slower"
+        else:
+            lefts = [told[one][1] for made, one in ways[standing] if made != move and told[one][0] == worth]
+            word = "sooner" if any(later > left for later in lefts) else "best"
+        rows.append((move, word, now, left))
+    return rows
+
+
+def first_best_by(ways, told, standing):
+    return next(row[0] for row in judged_by(ways, told, standing) if row[1] == "best")
+
+
+def line_by(ways, told, standing):
+    made, met = [], [standing]
+    while ways[met[-1]]:
+        made.append(first_best_by(ways, told, met[-1]))
+        here = dict(ways[met[-1]])[made[-1]]
+        if here in met:
+            return (made, "round")
+        met.append(here)
+    return (made, "end")
+
+
+def planned_order(game, standing, side, plan):
+    """All to which play comes in order, and those of them at which the plan has no move."""
+    moves = dict(plan)
+    told, lacking, layer = [], [], [standing]
+    while layer:
+        fresh = []
+        for one in layer:
+            if one not in told and one not in fresh:
+                fresh.append(one)
+        told += fresh
+        layer = []
+        for one in fresh:
+            if one[0] != side or end_of(game, one) is not None:
+                layer += behind(game, one)
+            elif repr(moves.get(one)) in [repr(move) for move in moves_of(game, one)]:
+                layer.append(after(game, one, moves[one]))
+            else:
+                lacking.append(one)
+    return told, lacking
+
+
+def planned_ways(game, standing, side, plan):
+    """The ways where the side has no other moves than the plan's, and the worths of all that are reached by them."""
+    found = planned_order(game, standing, side, plan)[0]
+    ways = ways_of(game, found)
+    moves = dict(plan)
+    for one in found:
+        if one[0] == side:
+            ways[one] = [(move, other) for move, other in ways[one] if move == moves[one]]
+    behinds = {one: [other for move, other in ways[one]] for one in ways}
+    return ways, solve_on({one: end_of(game, one) for one in found}, behinds)

@@ -1,5 +1,8 @@
 """Texts spoilt in many ways, and the row of them that must be refused."""
 
+from solvedplay.errors import BadRow
+from tests.asking import refused
+
 
 def spoilt(dice, text, signs, words):
     """The text with something otherwise: rows, signs or a word."""
@@ -41,3 +44,30 @@ def plain_number(word):
         return int(word) if str(int(word)) == word else None
     except ValueError:
         return None
+
+
+class RowsRefused:
+    """For tests of a text's rows: the class has ROWS, those of a text that is right, and read(text)."""
+
+    def check(self, row, *rows):
+        """Of the text of these rows it's this row that is refused."""
+        refused(self, BadRow, row, lambda: self.read("\n".join(rows)))
+
+    def check_row(self, at, rows):
+        """Of each of these, in the place of the row of ROWS, it's this row that is refused."""
+        for row in rows:
+            self.check(at, *self.ROWS[:at], row, *self.ROWS[at + 1:])
+            self.check(at, *self.ROWS[:at], row)
+
+    def test_no_text(self):
+        self.check(0, "")
+        self.check(0, "", "")
+        self.check(0, "", *self.ROWS)
+        self.check(0, " ")
+
+    def test_a_line_feed_at_the_end_and_empty_rows(self):
+        self.check(len(self.ROWS), *self.ROWS, "")
+        for at in range(len(self.ROWS) + 1):
+            self.check(at, *self.ROWS[:at], "", *self.ROWS[at:])
+            self.check(at, *self.ROWS[:at], " ", *self.ROWS[at:])
+            self.check(at, *self.ROWS[:at], "-", *self.ROWS[at:])

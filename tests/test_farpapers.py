@@ -5,13 +5,12 @@ import unittest
 from solvedplay.errors import TooMany
 from solvedplay.farpapers import far_paper, shows_far
 from solvedplay.solving import worth_of
-from tests.asking import (FORKED, OTHERS, ROUND, STUCK, WALK, asked_games, other_turn, refused, small_games, swapped,
+from tests.asking import (FORKED, OTHERS, ROUND, START, STUCK, WALK, asked_games, other_turn, refused, small_games, swapped,
                           turned_round, walk)
 from tests.judges import broken_far, full_far
 from tests.oracle import all_standings, end_of, listed, moves_of, reach_of, solve
 from tests.samples import FOUR_HUNDRED, ONE_MORE
 
-START = (0, "ax..")
 QUICK = [((0, "ax.."), (1, "x.", ".x"), 3), ((0, "b.x."), (2, "x.", ".x"), 1), ((1, "a.x."), None, 2),
          ((1, "b..x"), None, 0)]
 SLOW = [((0, "ax.."), 2, None), ((0, "b.x."), 0, None), ((1, "a.x."), 1, (0, "a", "b"))]

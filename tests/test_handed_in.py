@@ -11,7 +11,11 @@ from solvedplay.gametext import game_in, game_text
 from solvedplay.moves import done, ended, moves, places_of
 from solvedplay.papers import paper, shows_rows, shows_worth
 from solvedplay.papertext import paper_in, paper_text
+from solvedplay.plans import best_plan, counter, plan_worth
+from solvedplay.playing import best_moves, judged, line, puzzles
 from solvedplay.reach import reached, unused, ways_back
+from solvedplay.records import played, told_moves
+from solvedplay.recordtext import record_in, record_text
 from solvedplay.rounds import back_in, round_word
 from solvedplay.solving import solved, worth_of
 from solvedplay.tablepapers import shows_solved
@@ -22,6 +26,7 @@ GAME = game_of(".ab", 3, ((("a", "."), ("a", "b"), ("ab", "ba"), ("b", ".")), ((
                ((0, "...", 4), (1, "bbb", -3), (2, "aaa", 2)), (-1, 0), "ring")
 PLAIN = game_of(".ab", 3, ((), ()), (), (5, -5))
 ROUND = game_of("ab", 2, ((("a", "b"), ("b", "a")), (("a", "b"), ("b", "a"))))
+PLAN = [((1, "ab"), (0, "a", "b")), ((1, "ba"), (1, "a", "b"))]
 
 # Each with its arguments by their names, in their places.
 CALLS = [
@@ -85,6 +90,41 @@ CALLS = [
     (paper_in, {"game": GAME, "text": "paper 3\nleast 0 bab 1:a>b 2\nmost 0 bab - -"}),
     (paper_in, {"game": GAME, "text": "paper 3"}),
     (paper_in, {"game": GAME, "text": "paper 3\nleast 0 bab 1:a>bb 2"}),
+    (judged, {"game": GAME, "standing": (0, "bab")}),
+    (judged, {"game": PLAIN, "standing": (0, "bab"), "most": 1}),
+    (judged, {"game": ROUND, "standing": (1, "ab"), "most": 3}),
+    (best_moves, {"game": GAME, "standing": (0, "bab")}),
+    (best_moves, {"game": ROUND, "standing": (1, "ab"), "most": 3}),
+    (line, {"game": GAME, "standing": (0, "bab")}),
+    (line, {"game": PLAIN, "standing": (0, "bab"), "most": 1}),
+    (line, {"game": ROUND, "standing": (1, "ab"), "most": 8}),
+    (line, {"game": ROUND, "standing": (1, "ab"), "most": 3}),
+    (puzzles, {"game": GAME, "standings": [(0, "bab"), (0, "..a")], "far": 6}),
+    (puzzles, {"game": GAME, "standings": [(0, "bab"), (0, "..a")], "far": 2, "most": 60}),
+    (puzzles, {"game": ROUND, "standings": [(1, "ab")], "far": 2, "most": 3}),
+    (best_plan, {"game": GAME, "standing": (0, "bab"), "side": 0}),
+    (best_plan, {"game": GAME, "standing": (0, "bab"), "side": 1, "most": 60}),
+    (best_plan, {"game": ROUND, "standing": (1, "ab"), "side": 1, "most": 3}),
+    (plan_worth, {"game": ROUND, "standing": (1, "ab"), "side": 1, "plan": PLAN}),
+    (plan_worth, {"game": ROUND, "standing": (1, "ab"), "side": 1, "plan": PLAN[:1]}),
+    (plan_worth, {"game": ROUND, "standing": (1, "ab"), "side": 1, "plan": PLAN, "most": 2}),
+    (plan_worth, {"game": PLAIN, "standing": (0, "bab"), "side": 0, "plan": [], "most": 1}),
+    (counter, {"game": ROUND, "standing": (1, "ab"), "side": 1, "plan": PLAN}),
+    (counter, {"game": ROUND, "standing": (1, "ab"), "side": 1, "plan": [((1, "ab"), (False, "a", "b"))]}),
+    (counter, {"game": ROUND, "standing": (1, "ab"), "side": 1, "plan": PLAN, "most": 4}),
+    (counter, {"game": ROUND, "standing": (1, "ab"), "side": 1, "plan": PLAN, "most": 2}),
+    (played, {"game": ROUND, "record": ((1, "ab"), [(0, "a", "b"), (1, "b", "a")])}),
+    (played, {"game": ROUND, "record": ((1, "ab"), [(0, "a", "b"), (True, "b", "a")])}),
+    (played, {"game": PLAIN, "record": ((1, "bab"), [])}),
+    (told_moves, {"game": ROUND, "record": ((1, "ab"), [(0, "a", "b"), (1, "b", "a")])}),
+    (told_moves, {"game": ROUND, "record": ((1, "ab"), [(0, "a", "b"), (1, "b", "a")]), "most": 8}),
+    (told_moves, {"game": ROUND, "record": ((1, "ab"), [(0, "a", "b"), (1, "a")])}),
+    (told_moves, {"game": ROUND, "record": ((1, "ab"), []), "most": 3}),
+    (record_text, {"record": ((1, "ab"), [(0, "a", "b"), (1, "b", "a")])}),
+    (record_text, {"record": ((1, "ab"), [])}),
+    (record_in, {"game": ROUND, "text": "from 1 ab\n0 a b\n1 b a"}),
+    (record_in, {"game": ROUND, "text": "from 1 ab"}),
+    (record_in, {"game": ROUND, "text": "from 1 ab\n0 a b\n1 a b"}),
 ]
 
 REFUSALS = (BadRow, NoMove, TooMany)

@@ -7,7 +7,7 @@ from solvedplay.papertext import paper_in, paper_text
 from tests.asking import STUCK, WALK, asked_games, refused, small_games
 from tests.oracle import all_standings, game_of, listed
 from tests.samples import FOUR_HUNDRED
-from tests.spoiling import bad_row, plain_number, spoilt
+from tests.spoiling import RowsRefused, bad_row, plain_number, spoilt
 
 GAME = game_of(".ab", 3)
 ROWS = ["paper -9", "least 0 ..a 0:a>b -", "least 0 .ab - 400", "least 1 ... 2:...>bbb 0", "most 0 .ab 1:ab>ba -",
@@ -97,20 +97,11 @@ class Texts(unittest.TestCase):
         self.assertEqual((one[2], other, paper_in(GAME, "paper 1")), ([], (1, [], []), (1, [], [])))
 
 
-class Refused(unittest.TestCase):
-    def check(self, row, *rows):
-        refused(self, BadRow, row, lambda: paper_in(GAME, "\n".join(rows)))
+class Refused(RowsRefused, unittest.TestCase):
+    ROWS = ROWS
 
-    def check_row(self, at, rows):
-        for row in rows:
-            self.check(at, *ROWS[:at], row, *ROWS[at + 1:])
-            self.check(at, *ROWS[:at], row)
-
-    def test_no_text(self):
-        self.check(0, "")
-        self.check(0, "", "")
-        self.check(0, "", *ROWS)
-        self.check(0, "-")
+    def read(self, text):
+        return paper_in(GAME, text)
 
     def test_head(self):
         self.check_row(0, ["paper", "paper ", "paper  -9", " paper -9", "paper -9 ", "paper -9 0", "Paper -9", "papers -9", "-9",
@@ -123,12 +114,9 @@ class Refused(unittest.TestCase):
         self.check(7, *ROWS, ROWS[0])
         self.check(4, *ROWS[:4], ROWS[0], *ROWS[4:])
 
-    def test_line_feeds_and_empty_rows(self):
-        self.check(7, *ROWS, "")
-        for at in range(8):
-            self.check(at, *ROWS[:at], "", *ROWS[at:])
-            self.check(at, *ROWS[:at], "-", *ROWS[at:])
+    def test_no_rows_and_an_empty_one(self):
         self.check(1, "paper 0", "")
+        self.check(0, "-")
 
     def both(self, rest):
         """Of a row of either sort."""

@@ -4,14 +4,13 @@ import unittest
 
 from solvedplay.solving import solved
 from solvedplay.tablepapers import shows_solved
-from tests.asking import (FORKED, OTHERS, ROUND, STUCK, WALK, asked_games, other_turn, small_games, swapped,
+from tests.asking import (FORKED, OTHERS, ROUND, START, STUCK, WALK, asked_games, other_turn, small_games, swapped,
                           turned_round)
 from tests.judges import broken_table
 from tests.oracle import all_standings, behind, game_of, listed, reach_of, some_standings
 from tests.samples import FOUR_HUNDRED
 
 # A gain of side 0, on its turn and on the other one's.
-START = (0, "ax..")
 TABLE = [((0, "ax.."), 5, 3), ((0, "b.x."), 5, 1), ((1, "a.x."), 5, 2), ((1, "b..x"), 5, 0)]
 EVENS = [((0, "aa"), 0, None), ((0, "bb"), 0, None), ((1, "ab"), 0, None), ((1, "ba"), 0, None), ((1, "cc"), -7, 0)]
 

@@ -7,7 +7,7 @@ from solvedplay.tabletext import table_in, table_text
 from tests.asking import ROUND, STUCK, WALK, refused, small_games
 from tests.oracle import all_standings, game_of, listed, some_standings
 from tests.samples import FOUR_HUNDRED
-from tests.spoiling import bad_row, plain_number, spoilt
+from tests.spoiling import RowsRefused, bad_row, plain_number, spoilt
 
 GAME = game_of(".ab", 3)
 ROWS = ["0 ..a 0 -", "0 .ab -9 400", "0 bbb 0 0", "1 ... 9 17", "1 a.b 3 0"]
@@ -82,20 +82,11 @@ class Texts(unittest.TestCase):
         self.assertEqual((other, table_in(GAME, TEXT), table_in(GAME, "-")), (TABLE, TABLE, []))
 
 
-class Refused(unittest.TestCase):
-    def check(self, row, *rows):
-        refused(self, BadRow, row, lambda: table_in(GAME, "\n".join(rows)))
+class Refused(RowsRefused, unittest.TestCase):
+    ROWS = ROWS
 
-    def check_row(self, at, rows):
-        for row in rows:
-            self.check(at, *ROWS[:at], row, *ROWS[at + 1:])
-            self.check(at, *ROWS[:at], row)
-
-    def test_no_text(self):
-        self.check(0, "")
-        self.check(0, "", "")
-        self.check(0, "", *ROWS)
-        self.check(0, " ")
+    def read(self, text):
+        return table_in(GAME, text)
 
     def test_nothing_with_other_rows(self):
         self.check(0, "-", *ROWS)
@@ -105,12 +96,6 @@ class Refused(unittest.TestCase):
         self.check(2, *ROWS[:2], "-", *ROWS[2:])
         for text in (" -", "- ", "--", "-\n", "\n-", "- - - -"):
             self.check(0, *text.split("\n"))
-
-    def test_a_line_feed_at_the_end_and_empty_rows(self):
-        self.check(5, *ROWS, "")
-        for at in range(5):
-            self.check(at, *ROWS[:at], "", *ROWS[at:])
-            self.check(at, *ROWS[:at], " ", *ROWS[at:])
 
     def test_side(self):
         self.check_row(1, [f"{side} .ab -9 400" for side in ("2", "-1", "00", "01", "-0", "+0", "a", "", "-", "\u0660", "0.")])
