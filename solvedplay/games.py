@@ -28,8 +28,17 @@ def is_standing(game, thing):
     return is_number_from(side, 0, 1) and is_text_of(row, game[2], game[3], game[3])
 
 
+def rules_of(game):
+    """The rising list of its rules (side, old, new)."""
+    return [(side, old, new) for side in (0, 1) for old, new in game[4][side]]
+
+
+def is_name(thing):
+    return is_text_of(thing, LETTERS, 1, 8)
+
+
 def is_head(name, shape, beads, long):
-    return is_text_of(name, LETTERS, 1, 8) and shape in SHAPES and is_beads(beads) and is_number_from(long, 2, 7)
+    return is_name(name) and shape in SHAPES and is_beads(beads) and is_number_from(long, 2, 7)
 
 
 def is_beads(thing):

@@ -8,6 +8,15 @@ def tupled(thing):
     return thing
 
 
+def copied(thing):
+    """The same, of the same kinds, with lists of its own."""
+    if isinstance(thing, list):
+        return [copied(part) for part in thing]
+    if isinstance(thing, tuple):
+        return tuple([copied(part) for part in thing])
+    return thing
+
+
 def is_number(thing):
     # Python counts True and False among the whole numbers, the document doesn't.
     return isinstance(thing, int) and not isinstance(thing, bool)

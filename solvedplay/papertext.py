@@ -3,7 +3,7 @@
 from solvedplay.errors import BadRow
 from solvedplay.games import LONGEST_OLD
 from solvedplay.kinds import is_text_of
-from solvedplay.words import NONE_WORD, far_in, far_word, number_in, standing_in, worth_in
+from solvedplay.words import NONE_WORD, far_in, far_word, move_word, number_in, standing_in, worth_in
 
 
 def paper_text(thing):
@@ -19,10 +19,7 @@ def row_text(word, row):
 
 
 def choice_word(choice):
-    if choice is None:
-        return NONE_WORD
-    place, old, new = choice
-    return f"{place}:{old}>{new}"
+    return NONE_WORD if choice is None else move_word(choice)
 
 
 def paper_in(game, text):

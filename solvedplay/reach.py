@@ -1,6 +1,7 @@
 """What play comes to."""
 
 from solvedplay.errors import TooMany
+from solvedplay.games import rules_of
 from solvedplay.kinds import tupled
 from solvedplay.moves import behind_move, moves, places_of
 
@@ -16,9 +17,8 @@ def unused(game, standings, *, most=MOST):
     """The pair of the lists of rules and of ends that aren't used in those reached."""
     ways = ways_from(game, standings, most)
     used = {(standing[0], old, new): True for standing in ways for (place, old, new), behind in ways[standing]}
-    rules = [(side, old, new) for side in (0, 1) for old, new in game[4][side]]
     ends = tupled(game[5])
-    return ([rule for rule in rules if rule not in used], [end for end in ends if not is_met(game, ways, end)])
+    return ([rule for rule in rules_of(game) if rule not in used], [end for end in ends if not is_met(game, ways, end)])
 
 
 def ways_back(game, standings, goal, *, most=MOST):

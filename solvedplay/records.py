@@ -22,11 +22,17 @@ def played(game, record):
 
 def told_moves(game, record, *, most=MOST):
     """For each move what judged tells of it, (word, worth, far); refused as played, then with TooMany."""
+    standings, made, ways, told = looked_over(game, record, most)
+    return [told_of(judged_on(ways, told, here), move) for here, move in zip(standings, made)]
+
+
+def looked_over(game, record, most):
+    """The tuple of the record's standings, its moves, and the ways and worths of all that are reached from its first
+    one; refused as told_moves."""
     start, made = tupled(record)
     standings = played(game, record)
     ways = ways_from(game, [start], most)
-    told = worths_on(game, ways)
-    return [told_of(judged_on(ways, told, here), move) for here, move in zip(standings, made)]
+    return (standings, made, ways, worths_on(game, ways))
 
 
 def told_of(rows, wanted):

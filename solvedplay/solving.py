@@ -25,7 +25,11 @@ def gain_of(side, worth):
 
 def worths_on(game, ways):
     """A dict of the pairs (worth, far) of all standings of ways, as ways_from tells them."""
-    ends = {standing: ended(game, standing) for standing in ways}
+    return worths_by({standing: ended(game, standing) for standing in ways}, ways)
+
+
+def worths_by(ends, ways):
+    """As worths_on; ends are what ended tells of each."""
     told = {standing: (0, None if ends[standing] is None else 0) for standing in ways}
     # Rising, so that what is told last is the greatest gain of either side.
     for size in range(1, GREATEST + 1):

@@ -1,4 +1,4 @@
-"""Words of rows: numbers, standings, and what stands for None."""
+"""Words of rows: numbers, standings, moves, and what stands for None."""
 
 from solvedplay.games import GREATEST, is_standing
 from solvedplay.kinds import is_text_of
@@ -30,6 +30,11 @@ def far_in(word):
 
 def far_word(far):
     return NONE_WORD if far is None else str(far)
+
+
+def move_word(move):
+    place, old, new = move
+    return f"{place}:{old}>{new}"
 
 
 def standing_in(game, side_word, row_word):

@@ -4,10 +4,13 @@ import copy
 import unittest
 
 from solvedplay.ahead import known_by, within
+from solvedplay.classes import read_alike, solved_alike
 from solvedplay.errors import BadRow, NoMove, TooMany
+from solvedplay.explaining import explained
 from solvedplay.farpapers import far_paper, shows_far
 from solvedplay.games import is_game, is_standing
 from solvedplay.gametext import game_in, game_text
+from solvedplay.mistakes import given_away, mistakes
 from solvedplay.moves import done, ended, moves, places_of
 from solvedplay.papers import paper, shows_rows, shows_worth
 from solvedplay.papertext import paper_in, paper_text
@@ -20,12 +23,16 @@ from solvedplay.rounds import back_in, round_word
 from solvedplay.solving import solved, worth_of
 from solvedplay.tablepapers import shows_solved
 from solvedplay.tabletext import table_in, table_text
+from solvedplay.turnings import alike, least_alike, turned, turned_game, turned_move, turnings
+from solvedplay.variants import changes, varied
 from tests.oracle import game_of, listed
 
 GAME = game_of(".ab", 3, ((("a", "."), ("a", "b"), ("ab", "ba"), ("b", ".")), ((".", "a"), ("b.", ".b"))),
                ((0, "...", 4), (1, "bbb", -3), (2, "aaa", 2)), (-1, 0), "ring")
 PLAIN = game_of(".ab", 3, ((), ()), (), (5, -5))
 ROUND = game_of("ab", 2, ((("a", "b"), ("b", "a")), (("a", "b"), ("b", "a"))))
+# With two mistakes, and moves behind each.
+RECORD = ((0, "..b"), [(2, "b", "."), (0, ".", "a"), (0, "a", "b"), (1, ".", "a"), (1, "a", "b")])
 PLAN = [((1, "ab"), (0, "a", "b")), ((1, "ba"), (1, "a", "b"))]
 
 # Each with its arguments by their names, in their places.
@@ -125,6 +132,37 @@ CALLS = [
     (record_in, {"game": ROUND, "text": "from 1 ab\n0 a b\n1 b a"}),
     (record_in, {"game": ROUND, "text": "from 1 ab"}),
     (record_in, {"game": ROUND, "text": "from 1 ab\n0 a b\n1 a b"}),
+    (mistakes, {"game": GAME, "record": RECORD}),
+    (mistakes, {"game": GAME, "record": RECORD, "most": 54}),
+    (mistakes, {"game": GAME, "record": (RECORD[0], RECORD[1] + [(0, "a")])}),
+    (mistakes, {"game": GAME, "record": (RECORD[0], []), "most": 3}),
+    (given_away, {"game": GAME, "record": RECORD}),
+    (given_away, {"game": GAME, "record": (RECORD[0], RECORD[1] + [(True, "b", ".")]), "most": 54}),
+    (given_away, {"game": GAME, "record": RECORD, "most": 3}),
+    (explained, {"game": GAME, "record": RECORD}),
+    (explained, {"game": GAME, "record": (RECORD[0], RECORD[1] + [()]), "most": 54}),
+    (explained, {"game": GAME, "record": RECORD, "most": 3}),
+    (turned, {"game": GAME, "turning": (1, 2, 1, "ab."), "standing": (0, "ba.")}),
+    (turned_move, {"game": GAME, "turning": (1, 2, 1, "ab."), "move": (2, "b.", ".b")}),
+    (turned_game, {"game": GAME, "turning": (1, 2, 1, "ab.")}),
+    (turnings, {"game": GAME}),
+    (turnings, {"game": ROUND}),
+    (alike, {"game": GAME, "one": (0, "ba."), "other": (0, ".ba")}),
+    (alike, {"game": GAME, "one": (0, "ba."), "other": (1, ".ba")}),
+    (least_alike, {"game": ROUND, "standing": (1, "ba")}),
+    (solved_alike, {"game": GAME, "standings": [(0, "bab"), (0, "..a"), (0, "bab")]}),
+    (solved_alike, {"game": ROUND, "standings": [(1, "ab")], "most": 2}),
+    (solved_alike, {"game": ROUND, "standings": [(1, "ab")], "most": 1}),
+    (solved_alike, {"game": PLAIN, "standings": []}),
+    (read_alike, {"game": ROUND, "rows": [((0, "aa"), 3, 2), ((0, "ab"), 0, None)], "standing": (1, "ba")}),
+    (read_alike, {"game": ROUND, "rows": [((0, "aa"), 3, 2), ((0, "ab"), 0, None)], "standing": (1, "bb")}),
+    (read_alike, {"game": ROUND, "rows": [((0, "aa"), 3, 2)], "standing": (1, "ba")}),
+    (varied, {"game": GAME, "change": ("rule", 1, "ab", "ba")}),
+    (varied, {"game": GAME, "change": ("noend", 2, "aaa", 2)}),
+    (varied, {"game": PLAIN, "change": ("stuck", 0, -5)}),
+    (changes, {"game": GAME, "other": PLAIN}),
+    (changes, {"game": PLAIN, "other": GAME}),
+    (changes, {"game": PLAIN, "other": PLAIN}),
 ]
 
 REFUSALS = (BadRow, NoMove, TooMany)
