@@ -22,7 +22,8 @@ class Explained(unittest.TestCase):
 
     def test_none(self):
         record = ((0, "aa"), [(0, "a", "b"), (0, "b", "a"), (0, "aa", "cc")])
-        self.assertEqual(explained(ROUND, record), ["0 0 0:a>b best 0 -", "1 1 0:b>a best 0 -", "2 0 0:aa>cc mistake -7 0 gives 7"])
+        self.assertEqual(explained(ROUND, record), ["0 0 0:a>b best 0 -", "1 1 0:b>a best 0 -",
+                                                    "2 0 0:aa>cc mistake -7 0 gives 7"])
 
     def test_a_mistake_to_none(self):
         game = ROUND[:5] + (((2, "cc", 7),), (0, 0))

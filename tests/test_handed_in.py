@@ -5,11 +5,13 @@ import unittest
 
 from solvedplay.ahead import known_by, within
 from solvedplay.classes import read_alike, solved_alike
+from solvedplay.deskrows import deskrow_in
 from solvedplay.errors import BadRow, NoMove, TooMany
 from solvedplay.explaining import explained
 from solvedplay.farpapers import far_paper, shows_far
 from solvedplay.games import is_game, is_standing
 from solvedplay.gametext import game_in, game_text
+from solvedplay.leading import kept, led_over, touched
 from solvedplay.mistakes import given_away, mistakes
 from solvedplay.moves import done, ended, moves, places_of
 from solvedplay.papers import paper, shows_rows, shows_worth
@@ -163,6 +165,21 @@ CALLS = [
     (changes, {"game": GAME, "other": PLAIN}),
     (changes, {"game": PLAIN, "other": GAME}),
     (changes, {"game": PLAIN, "other": PLAIN}),
+    (touched, {"game": GAME, "other": PLAIN, "standings": [(0, "bab"), (0, "..a"), (0, "bab")]}),
+    (touched, {"game": PLAIN, "other": GAME, "standings": [(0, "bab")], "most": 1}),
+    (touched, {"game": GAME, "other": PLAIN, "standings": [(0, "bab")], "most": 1}),
+    (kept, {"game": PLAIN, "other": GAME, "standings": [(0, "bab"), (0, "...")]}),
+    (kept, {"game": GAME, "other": GAME, "standings": [(0, "bab")], "most": 54}),
+    (kept, {"game": GAME, "other": PLAIN, "standings": [(0, "bab")], "most": 1}),
+    (led_over, {"game": PLAIN, "other": GAME, "rows": [((0, "bab"), 5, 0)]}),
+    (led_over, {"game": PLAIN, "other": GAME, "rows": [((0, "bab"), 5, 0)], "most": 54}),
+    (led_over, {"game": PLAIN, "other": GAME, "rows": [((0, "bab"), 5, 0)], "most": 3}),
+    (led_over, {"game": PLAIN, "other": GAME, "rows": []}),
+    (deskrow_in, {"text": "worth toy 0 bab"}),
+    (deskrow_in, {"text": "put game toy ring .ab 3 / rule 0 a b / end 2 aaa 2 / stuck 0 0"}),
+    (deskrow_in, {"text": "vary toy rule 0 a b"}),
+    (deskrow_in, {"text": "mistakes toy from 0 bab / 0 a b"}),
+    (deskrow_in, {"text": "worth toy 2 bab"}),
 ]
 
 REFUSALS = (BadRow, NoMove, TooMany)

@@ -6,7 +6,8 @@ from solvedplay.errors import BadChange
 from solvedplay.games import is_game
 from solvedplay.variants import changes, varied
 from tests.asking import OTHERS, refused
-from tests.oracle import game_of, listed, random_ends, random_game, random_rules
+from tests.oracle import game_of, listed, random_game
+from tests.plain_variants import other_of, plain_varied, random_change
 
 GAME = game_of(".ab", 4, ((("a", "."), ("ab", "ba")), (("b", "."),)), ((0, "aa", 4), (1, "bb", -3), (2, "...", 1)), (-2, 5))
 # Six rules of each side, and six ends.
@@ -21,64 +22,6 @@ def with_part(at, part, game=GAME):
     return game[:at] + (part,) + game[at + 1:]
 
 
-def random_change(dice, game):
-    """Any change, most of which can't be made."""
-    beads = game[2] + dice.choice(["", "", "q"])
-    text, other = ["".join(dice.choice(beads) for at in range(dice.randint(1, 4))) for number in (0, 1)]
-    side, worth = dice.choice([0, 0, 1, 1, 2, -1]), dice.randint(-11, 11)
-    rules = [(at, *rule) for at in (0, 1) for rule in game[4][at]]
-    word = dice.choice(["shape", "norule", "rule", "rule", "noend", "end", "end", "stuck"])
-    if word == "shape":
-        return (word, dice.choice(["line", "ring", "knot"]))
-    if word == "norule" and rules and dice.random() < 0.7:
-        return (word, *dice.choice(rules))
-    if word == "noend" and game[5] and dice.random() < 0.7:
-        return (word, *dice.choice(game[5]))
-    if word in ("norule", "rule"):
-        return (word, side, text, (other * 4)[:len(text)] if dice.random() < 0.9 else other)
-    return (word, side, worth) if word == "stuck" else (word, dice.choice([side, 2]), text, worth)
-
-
-def wanted(game, change):
-    """What varied must tell, by the words of the document; None where it's refused."""
-    name, shape, beads, long, rules, ends, stuck = game
-    word, rest = change[0], change[1:]
-    rules = [set(side) for side in rules]
-    if word == "shape":
-        shape = rest[0]
-    elif word in ("norule", "rule"):
-        if rest[0] not in (0, 1) or (rest[1:] in rules[rest[0]]) != (word == "norule"):
-            return None
-        rules[rest[0]] ^= {rest[1:]}
-    elif word == "noend":
-        if rest not in ends:
-            return None
-        ends = tuple(end for end in ends if end != rest)
-    elif word == "end":
-        if rest[:2] in [end[:2] for end in ends]:
-            return None
-        ends = tuple(sorted(ends + (rest,)))
-    elif word == "stuck":
-        if rest[0] not in (0, 1):
-            return None
-        stuck = (rest[1], stuck[1]) if rest[0] == 0 else (stuck[0], rest[1])
-    fresh = (name, shape, beads, long, tuple(tuple(sorted(side)) for side in rules), ends, stuck)
-    return fresh if is_game(fresh) and fresh != game else None
-
-
-def other_of(dice, game):
-    """A game of the same name, beads and long."""
-    beads, long = game[2:4]
-    rules = list(game[4])
-    for side in (0, 1):
-        if dice.random() < 0.5:
-            rules[side] = random_rules(dice, beads, long, 6)
-    ends = random_ends(dice, beads, long, 6) if dice.random() < 0.5 else tuple(
-        end[:2] + (dice.choice([end[2], 1, -2]),) for end in game[5] if dice.random() < 0.8)
-    stuck = (dice.choice([game[6][0], 3]), dice.choice([game[6][1], -9]))
-    return (game[0], dice.choice(["line", "ring"]), beads, long, tuple(rules), ends, stuck)
-
-
 class Varied(unittest.TestCase):
     def test_shape(self):
         self.assertEqual(varied(GAME, ("shape", "ring")), with_part(1, "ring"))
@@ -87,7 +30,8 @@ class Varied(unittest.TestCase):
     def test_rules(self):
         self.assertEqual(varied(GAME, ("norule", 0, "a", ".")), with_part(4, ((("ab", "ba"),), GAME[4][1])))
         self.assertEqual(varied(GAME, ("norule", 1, "b", ".")), with_part(4, (GAME[4][0], ())))
-        self.assertEqual(varied(GAME, ("rule", 0, "aa", "..")), with_part(4, ((("a", "."), ("aa", ".."), ("ab", "ba")), GAME[4][1])))
+        self.assertEqual(varied(GAME, ("rule", 0, "aa", "..")), with_part(4, ((("a", "."), ("aa", ".."), ("ab", "ba")),
+                                                                              GAME[4][1])))
         self.assertEqual(varied(GAME, ("rule", 0, ".", "a")), with_part(4, (((".", "a"), ("a", "."), ("ab", "ba")), GAME[4][1])))
         self.assertEqual(varied(GAME, ("rule", 1, "bbb", "aaa")), with_part(4, (GAME[4][0], (("b", "."), ("bbb", "aaa")))))
         # The same rule of the other side is another one.
@@ -134,7 +78,7 @@ class Varied(unittest.TestCase):
         for number in range(3000):
             game = dice.choice([GAME, FULL, OTHER, random_game(dice, 4, 3)])
             change = random_change(dice, game)
-            want = wanted(game, change)
+            want = plain_varied(game, change)
             seen.add((change[0], want is None))
             if want is None:
                 refused(self, BadChange, change, lambda: varied(game, change))
@@ -190,7 +134,8 @@ class Refused(unittest.TestCase):
         self.check(("norule", 1, "a", "."), ("norule", 0, "b", "."), ("norule", 0, "ab", "bb"), ("norule", 0, ".", "a"),
                    ("norule", 0, "", ""), ("norule", 2, "a", "."), ("norule", -1, "b", "."), ("norule", -2, "a", "."))
         self.check(("rule", 0, "a", "."), ("rule", 1, "b", "."), ("rule", 2, "aa", ".."), ("rule", -1, "aa", ".."),
-                   ("rule", 0, "a", "a"), ("rule", 0, "a", "bb"), ("rule", 0, "aa", "b"), ("rule", 0, "", ""), ("rule", 0, "", "a"),
+                   ("rule", 0, "a", "a"), ("rule", 0, "a", "bb"), ("rule", 0, "aa", "b"), ("rule", 0, "", ""),
+                   ("rule", 0, "", "a"),
                    ("rule", 0, "a", ""), ("rule", 0, "aaaa", "bbbb"), ("rule", 0, "c", "a"), ("rule", 0, "a", "c"),
                    ("rule", 0, "A", "a"), ("rule", 0, "a a", "b b"))
         self.check(("rule", 0, "aaa", "bbb"), game=game_of("ab", 2))
