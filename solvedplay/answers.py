@@ -13,107 +13,107 @@ from solvedplay.turnings import least_alike
 from solvedplay.words import NONE_WORD, far_word, move_word
 
 
-def told_put(book, most, parts):
+def answer_put(book, most, parts):
     edition, many = book.put(parts[0])
     return f"{edition} {many}"
 
 
-def told_would(book, most, parts):
+def answer_would(book, most, parts):
     edition, many = book.would(parts[0])
     return f"{edition} {many}"
 
 
-def told_vary(book, most, parts):
+def answer_vary(book, most, parts):
     edition, many = book.vary(parts[0], parts[1])
     return f"{edition} {many}"
 
 
-def told_drop(book, most, parts):
+def answer_drop(book, most, parts):
     book.drop(parts[0])
     return "done"
 
 
-def told_undo(book, most, parts):
+def answer_undo(book, most, parts):
     return "done" if book.undo() else "none"
 
 
-def told_names(book, most, parts):
+def answer_names(book, most, parts):
     return words_or_none(book.names())
 
 
-def told_text(book, most, parts):
+def answer_text(book, most, parts):
     return game_text(book.game(parts[0])).replace("\n", PARTING)
 
 
-def told_editions(book, most, parts):
+def answer_editions(book, most, parts):
     return str(book.editions(parts[0]))
 
 
-def told_reckoned(book, most, parts):
+def answer_reckoned(book, most, parts):
     return str(book.reckoned())
 
 
-def told_known(book, most, parts):
+def answer_known(book, most, parts):
     return str(len(book.known(parts[0])))
 
 
-def told_moves(book, most, parts):
+def answer_moves(book, most, parts):
     game, standing = asked_of(book, parts)
     return words_or_none([move_word(move) for move in moves(game, standing)])
 
 
-def told_worth(book, most, parts):
+def answer_worth(book, most, parts):
     worth, far = book.worth(parts[0], parts[1], most=most)
     return f"{worth} {far_word(far)}"
 
 
-def told_line(book, most, parts):
+def answer_line(book, most, parts):
     made, word = book.line(parts[0], parts[1], most=most)
     return " ".join([move_word(move) for move in made] + [word])
 
 
-def told_round(book, most, parts):
+def answer_round(book, most, parts):
     game, standing = asked_of(book, parts)
     word = round_word(game, standing, most=most)
     return NONE_WORD if word == "" else word
 
 
-def told_alike(book, most, parts):
+def answer_alike(book, most, parts):
     game, standing = asked_of(book, parts)
     side, row = least_alike(game, standing)[0]
     return f"{side} {row}"
 
 
-def told_within(book, most, parts):
+def answer_within(book, most, parts):
     game, standing = asked_of(book, parts)
     low, high = within(game, standing, parts[2])
     return f"{low} {high}"
 
 
-def told_mistakes(book, most, parts):
+def answer_mistakes(book, most, parts):
     game = book.game(parts[0])
     rows = mistakes(game, record_in(game, parts[1]), most=most)
     return words_or_none([f"{number}:{ahead}:{behind}" for number, ahead, behind, made in rows])
 
 
 ANSWERS = {
-    "put": told_put,
-    "would": told_would,
-    "vary": told_vary,
-    "drop": told_drop,
-    "undo": told_undo,
-    "names": told_names,
-    "text": told_text,
-    "editions": told_editions,
-    "reckoned": told_reckoned,
-    "known": told_known,
-    "moves": told_moves,
-    "worth": told_worth,
-    "line": told_line,
-    "round": told_round,
-    "alike": told_alike,
-    "within": told_within,
-    "mistakes": told_mistakes,
+    "put": answer_put,
+    "would": answer_would,
+    "vary": answer_vary,
+    "drop": answer_drop,
+    "undo": answer_undo,
+    "names": answer_names,
+    "text": answer_text,
+    "editions": answer_editions,
+    "reckoned": answer_reckoned,
+    "known": answer_known,
+    "moves": answer_moves,
+    "worth": answer_worth,
+    "line": answer_line,
+    "round": answer_round,
+    "alike": answer_alike,
+    "within": answer_within,
+    "mistakes": answer_mistakes,
 }
 
 

@@ -18,7 +18,7 @@ def solved_alike(game, standings, *, most=MOST):
     def ways_at(standing):
         return [(move, least(behind)) for move, behind in ways_on(game, standing)]
 
-    ways = walked([least(standing) for standing in tupled(standings)], most, ways_at)
+    ways = walked([least(standing) for standing in standings], most, ways_at)
     told = worths_by(ends_of_both(game, ways), ways_of_both(ways))
     return sorted([(standing, *told[(standing[0], standing)]) for standing in ways])
 

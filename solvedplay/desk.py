@@ -30,7 +30,7 @@ class Desk:
         staying = self.shelf
         self.shelf = staying.twin()
         try:
-            texts = self.run_through(list(rows), deep)
+            texts = self.run_through(rows, deep)
             if keep:
                 staying = self.shelf
         finally:

@@ -1,6 +1,5 @@
 """What a variant of a game leaves as it was, and worths led over to it."""
 
-from solvedplay.kinds import tupled
 from solvedplay.moves import ended, moves
 from solvedplay.reach import MOST, walked, ways_from
 from solvedplay.solving import aheads, solved
@@ -26,7 +25,7 @@ def kept(game, other, standings, *, most=MOST):
 
 def led_over(game, other, rows, *, most=MOST):
     """The pair of what solved tells by other of the standings in rows, and how many of these aren't kept."""
-    standings = [row[0] for row in tupled(rows)]
+    standings = [row[0] for row in rows]
     staying = {standing: True for standing in kept(game, other, standings, most=most)}
     told = solved(other, standings, most=most)
     return (told, len([row for row in told if row[0] not in staying]))

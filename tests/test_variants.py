@@ -96,7 +96,7 @@ class Refused(unittest.TestCase):
     def test_things_of_every_kind(self):
         self.check(*OTHERS)
         self.check("shape", "shape ring", ["shape"], [["shape", "ring"]], (("shape", "ring"),), ((), "ring"), ([], "ring"),
-                   (None, "ring"), (1, "ring"), (True, "ring"), {}, {"shape": "ring"})
+                   (None, "ring"), (1, "ring"), (True, "ring"), {}, {"shape": "ring"}, ({}, "ring"))
 
     def test_too_few_and_too_many_parts(self):
         right = [("shape", "ring"), ("norule", 0, "a", "."), ("rule", 0, "aa", ".."), ("noend", 1, "bb", -3),
@@ -221,6 +221,8 @@ class Changes(unittest.TestCase):
         want = repr(changes(FULL, OTHER))
         self.assertEqual(repr(changes(listed(FULL), listed(OTHER))), want)
         self.assertEqual(repr(changes(game=FULL, other=OTHER)), want)
+        for game, other in ((listed(GAME), GAME), (GAME, listed(GAME)), (listed(FULL), FULL)):
+            self.assertEqual(changes(game, other), [])
         told = changes(FULL, OTHER)
         told.clear()
         self.assertEqual(repr(changes(FULL, OTHER)), want)
