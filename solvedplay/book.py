@@ -7,7 +7,7 @@ from solvedplay.leading import kept
 from solvedplay.papers import paper
 from solvedplay.playing import line
 from solvedplay.reach import MOST, ways_from
-from solvedplay.solving import worths_on
+from solvedplay.solving import ends_on, facts_by
 from solvedplay.variants import varied
 
 
@@ -20,8 +20,9 @@ def own_standing(game, thing):
 
 
 class Book:
-    """Games under their names. Of each name there's a page: the games of all its editions, and a dict of the pairs
-    (worth, far) of what is known. A page is replaced, never changed, for what may be undone and twins hold it, too."""
+    """Games under their names. Of each name there's a page: the games of all its editions, and a dict of what is
+    known, as facts_by tells it, for far of others may rest on lesser gains than the known worths. A page is replaced,
+    never changed, for what may be undone and twins hold it, too."""
 
     def __init__(self):
         self.games = {}
@@ -74,21 +75,19 @@ class Book:
         start = own_standing(game, standing)
         ways = ways_from(game, [start], most)
         editions, facts = self.page(name)
-        fresh = [one for one in ways if one not in facts]
-        if fresh != []:
-            # Far may rest on lesser ends than those by which the known ones have their worths, so that all ways are
-            # gone through again; what was known stays as it was, and isn't counted.
-            told = worths_on(game, ways)
-            facts = {one: facts[one] if one in facts else told[one] for one in [*facts, *fresh]}
+        fresh = {one: ways[one] for one in ways if one not in facts}
+        if fresh != {}:
+            told = facts_by(ends_on(game, fresh), fresh, facts)
+            facts = {one: facts[one] if one in facts else told[one] for one in [*facts, *told]}
             self.pages[name] = (editions, facts)
-            self.reckonings += len(fresh)
-        return facts[start]
+            self.reckonings += len(told)
+        return facts[start][:2]
 
     def known(self, name):
         """The rising list of tuples (standing, worth, far) of what is known."""
         self.game(name)
         facts = self.page(name)[1]
-        return sorted([(standing, *facts[standing]) for standing in facts])
+        return sorted([(standing, *facts[standing][:2]) for standing in facts])
 
     def reckoned(self):
         """How many standings were reckoned, of all names."""
@@ -142,7 +141,7 @@ class Book:
         return isinstance(other, Book) and self.games == other.games
 
     def page(self, name):
-        """The pair of all editions of the name, and a dict of what is known of it."""
+        """The pair of all editions of the name, and the dict of what is known of it."""
         return self.pages.get(name, ((), {}))
 
     def staying(self, game):

@@ -1,9 +1,8 @@
 """Games solved by their turnings: of all standings that are alike just the least one."""
 
 from solvedplay.kinds import tupled
-from solvedplay.moves import ended
 from solvedplay.reach import MOST, walked, ways_on
-from solvedplay.solving import worths_by
+from solvedplay.solving import ends_on, worths_by
 from solvedplay.turnings import least_alike, least_by, turned_worth, turnings
 
 
@@ -38,7 +37,7 @@ def read_alike(game, rows, standing):
 
 
 def ends_of_both(game, ways):
-    ends = {standing: ended(game, standing) for standing in ways}
+    ends = ends_on(game, ways)
     return {(side, standing): end_for(ends[standing], side == standing[0]) for standing in ways for side in (0, 1)}
 
 

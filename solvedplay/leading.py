@@ -2,7 +2,7 @@
 
 from solvedplay.moves import ended, moves
 from solvedplay.reach import MOST, walked, ways_from
-from solvedplay.solving import aheads, solved
+from solvedplay.solving import aheads, behinds_on, solved
 
 
 def touched(game, other, standings, *, most=MOST):
@@ -13,7 +13,7 @@ def touched(game, other, standings, *, most=MOST):
 def kept(game, other, standings, *, most=MOST):
     """The rising list of those reached by game from which play by game comes to none that's touched."""
     ways = ways_from(game, standings, most)
-    ahead = aheads({standing: [behind for move, behind in ways[standing]] for standing in ways})
+    ahead = aheads(behinds_on(ways))
 
     def ways_at(standing):
         return [(None, one) for one in ahead[standing]]

@@ -4,7 +4,7 @@ from solvedplay.games import is_standing, is_worth, rises
 from solvedplay.kinds import is_count, is_list_of, is_tuple_of, tupled
 from solvedplay.moves import behind_move, ended, is_move
 from solvedplay.reach import MOST, walked, ways_from, ways_on
-from solvedplay.solving import gain_of, is_end_for, nearness, worths_on
+from solvedplay.solving import ends_on, gain_of, is_end_for, nearness, worths_on
 
 
 def paper(game, standing, *, most=MOST):
@@ -73,7 +73,7 @@ def has_standing(rows, standing):
 def lefts_for(game, ways, told, side, worth):
     """A dict of the standings of ways at which the side can get the worth or more for it, each with its left."""
     if is_by_ends(side, worth):
-        return nearness({standing: ended(game, standing) for standing in ways}, ways, side, worth)
+        return nearness(ends_on(game, ways), ways, side, worth)
     return {standing: None for standing in ways if gain_of(side, told[standing][0]) >= gain_of(side, worth)}
 
 

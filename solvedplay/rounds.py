@@ -16,7 +16,7 @@ def round_word(game, standing, *, most=MOST):
     counts = counts_from(evens, start)
     if not any([end in counts for end in ends]):
         return "must"
-    return "never" if start in brought(evens, ends, None) else "may"
+    return "never" if start in brought(evens, {end: 0 for end in ends}, None) else "may"
 
 
 def back_in(game, standing, *, most=MOST):

@@ -39,6 +39,16 @@ class Worths(unittest.TestCase):
         self.check(walk(((0, "..x", 5),)), (0, "ax.."), (5, 4))
         self.check(walk(((1, "..x", 5),)), (0, "ax.."), (5, 3))
 
+    def test_each_worth(self):
+        for worth in range(1, 10):
+            self.check(walk(((2, "..x", worth),)), (0, "ax.."), (worth, 3))
+            self.check(walk(((2, "..x", -worth),)), (1, "bx.."), (-worth, 4))
+            # Of two that are next to one another the better one for the side that chooses, and far for it.
+            if worth < 9:
+                for first, later in ((worth, worth + 1), (-worth - 1, -worth)):
+                    game = walk(((2, "...", first), (2, "..x", later)), (("x.", ".."),))
+                    self.check(game, (0, "ax.."), (later, 3))
+
     def test_a_loss_by_ends(self):
         game = walk(((2, "..x", -5),))
         self.check(game, (0, "ax.."), (-5, 3))
